@@ -1,0 +1,98 @@
+// Package wordcut: texts cut into words by a dictionary: see DOC.md.
+package wordcut
+
+import (
+	"wordcut/api"
+	"wordcut/entries"
+	"wordcut/words"
+)
+
+// Dict is a dictionary.
+type Dict struct {
+	words words.Set
+}
+
+// Walk goes from boundary to boundary of a text.
+type Walk struct{}
+
+// Check tells whether a text is a list of words (P3).
+func Check(list string) (api.Errno, int) {
+	_, fault, place := entries.Read(list)
+	return fault, place
+}
+
+// Build makes a dictionary of lists (P4).
+func Build(lists []string) (*Dict, api.Errno) {
+	if len(lists) > api.MaxLists {
+		return nil, api.ErrMany
+	}
+	d := &Dict{}
+	for _, list := range lists {
+		read, fault, _ := entries.Read(list)
+		if fault != api.OK {
+			return nil, fault
+		}
+		d.take(read)
+	}
+	// Only now: a later entry may put out what was one word too many.
+	if d.words.Size() > api.MaxWords {
+		return nil, api.ErrMany
+	}
+	return d, api.OK
+}
+
+// take lets entries have their way, a later one over an earlier one.
+func (d *Dict) take(read []entries.Entry) {
+	for _, entry := range read {
+		if entry.In {
+			d.words.Put(entry.Word, entry.Cost)
+		} else {
+			d.words.Drop(entry.Word)
+		}
+	}
+}
+
+// Size tells how many words there are (P5).
+func (d *Dict) Size() int { return d.words.Size() }
+
+// Prefixes tells the words with which a text begins (P5).
+func (d *Dict) Prefixes(text string) []api.Hit { return d.words.Prefixes(text) }
+
+// Image writes a dictionary down (P6).
+func (d *Dict) Image() string { return "" }
+
+// Load reads an image (P7).
+func Load(image string) (*Dict, api.Errno) { return nil, api.OK }
+
+// Cut tells the boundaries of a text (P8 to P11).
+func (d *Dict) Cut(text string) ([]int, api.Errno) { return nil, api.OK }
+
+// Begin begins a walk (P12).
+func (d *Dict) Begin(text string) (*Walk, api.Errno) { return nil, api.OK }
+
+// Place tells where the walk is (P12).
+func (w *Walk) Place() int { return 0 }
+
+// Kind tells the kind of the piece that ends there (P12).
+func (w *Walk) Kind() int { return 0 }
+
+// First goes to the first boundary (P13).
+func (w *Walk) First() int { return 0 }
+
+// Last goes to the last boundary (P13).
+func (w *Walk) Last() int { return 0 }
+
+// Next goes to the next boundary (P13).
+func (w *Walk) Next() int { return 0 }
+
+// Previous goes to the boundary ahead (P13).
+func (w *Walk) Previous() int { return 0 }
+
+// Following goes to the first boundary above k (P14).
+func (w *Walk) Following(k int) int { return 0 }
+
+// Preceding goes to the last boundary below k (P14).
+func (w *Walk) Preceding(k int) int { return 0 }
+
+// Is tells whether k is a boundary, and goes there (P14).
+func (w *Walk) Is(k int) bool { return false }

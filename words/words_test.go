@@ -1,0 +1,40 @@
+package words
+
+import (
+	"slices"
+	"testing"
+)
+
+func inOrder(s *Set) []string {
+	var texts []string
+	for _, c := range s.list {
+		texts = append(texts, c.word)
+	}
+	return texts
+}
+
+func TestPutAndDropKeepTheOrder(t *testing.T) {
+	var s Set
+	for _, word := range []string{"b", "ab", "a", "B", "a~", "abc", "b", "a", "AB"} {
+		s.Put(word, len(word))
+	}
+	if got, want := inOrder(&s), []string{"AB", "B", "a", "ab", "abc", "a~", "b"}; !slices.Equal(got, want) {
+		t.Errorf("the words are %q, want %q", got, want)
+	}
+	for _, word := range []string{"AB", "b", "abc", "c", "", "AB"} {
+		s.Drop(word)
+	}
+	if got, want := inOrder(&s), []string{"B", "a", "ab", "a~"}; !slices.Equal(got, want) {
+		t.Errorf("the words are %q, want %q", got, want)
+	}
+}
+
+func TestPutAgainGivesAnotherCost(t *testing.T) {
+	var s Set
+	s.Put("a", 1)
+	s.Put("a", 2)
+	hits := s.Prefixes("a")
+	if s.Size() != 1 || len(hits) != 1 || hits[0].Cost != 2 {
+		t.Errorf("of size %d, Prefixes %v", s.Size(), hits)
+	}
+}

@@ -4,6 +4,7 @@ package entries
 import (
 	"wordcut/api"
 	"wordcut/sorts"
+	"wordcut/words"
 )
 
 const maxDigits = 4
@@ -62,7 +63,7 @@ func readAll(list string) ([]Entry, int, bool) {
 // readEntry answers the entry at a place, the place behind it, and true; or
 // the place of the first byte that cannot stand there, and false.
 func readEntry(list string, at int) (Entry, int, bool) {
-	end := wordEnd(list, at)
+	end := words.End(list, at)
 	if end == at || end >= len(list) {
 		return Entry{}, end, false
 	}
@@ -80,27 +81,6 @@ func readEntry(list string, at int) (Entry, int, bool) {
 	}
 	cost := number(list[digits:end])
 	return Entry{Word: word, In: true, Cost: cost, Digits: digits}, end, true
-}
-
-// wordEnd answers how far a word reaches from a place on, MaxWord bytes at
-// most; the place itself, if none begins there.
-func wordEnd(list string, at int) int {
-	if at >= len(list) {
-		return at
-	}
-	letters := sorts.Of(list[at])
-	if letters != sorts.Small && letters != sorts.Capital {
-		return at
-	}
-	end := at + 1
-	for end < len(list) && end < at+api.MaxWord {
-		sort := sorts.Of(list[end])
-		if sort != letters && sort != sorts.Mark {
-			return end
-		}
-		end++
-	}
-	return end
 }
 
 // digitsEnd answers how far digits reach from a place on, maxDigits at most.

@@ -1,4 +1,4 @@
-// Package sorts: the sorts of bytes that lists are made of.
+// Package sorts: the sorts of bytes that lists and words are made of.
 package sorts
 
 const (

@@ -1,7 +1,10 @@
 package wordcut_test
 
 import (
+	"encoding/binary"
+	"maps"
 	"regexp"
+	"slices"
 	"sort"
 	"strconv"
 	"strings"
@@ -17,6 +20,7 @@ const entryForm = `(?:[a-z][a-z~]{0,11}|[A-Z][A-Z~]{0,11})(?:=[0-9]{1,4}|!)`
 var (
 	listForm = regexp.MustCompile(`\A(?:` + entryForm + `(?:,` + entryForm + `)*)?\z`)
 	costForm = regexp.MustCompile(`=([0-9]+)`)
+	wordForm = regexp.MustCompile(`\A(?:[a-z][a-z~]{0,11}|[A-Z][A-Z~]{0,11})\z`)
 )
 
 // beginsList: some list begins with this text. One of these ends makes a list
@@ -83,6 +87,86 @@ func wantPrefixes(dict map[string]int, text string) []api.Hit {
 	}
 	sort.Slice(hits, func(i, j int) bool { return hits[i].Length < hits[j].Length })
 	return hits
+}
+
+// sealed: bytes, and the one by which their sum becomes a multiple of 256.
+func sealed(bytes ...byte) string {
+	for last := range 256 {
+		image := string(bytes) + string([]byte{byte(last)})
+		if sumOf(image)%256 == 0 {
+			return image
+		}
+	}
+	return ""
+}
+
+func sumOf(text string) int {
+	sum := 0
+	for i := range len(text) {
+		sum += int(text[i])
+	}
+	return sum
+}
+
+// inImage: a word as it stands in an image.
+func inImage(common int, rest string, cost int) []byte {
+	bytes := append([]byte{byte(common), byte(len(rest))}, rest...)
+	return binary.LittleEndian.AppendUint16(bytes, uint16(cost))
+}
+
+// head: what stands in an image ahead of so many words.
+func head(count int) []byte {
+	return binary.LittleEndian.AppendUint16([]byte("WC"), uint16(count))
+}
+
+func wantImage(dict map[string]int) string {
+	bytes := head(len(dict))
+	last := ""
+	for _, word := range slices.Sorted(maps.Keys(dict)) {
+		common := len(word)
+		for !strings.HasPrefix(last, word[:common]) {
+			common--
+		}
+		bytes = append(bytes, inImage(common, word[common:], dict[word])...)
+		last = word
+	}
+	return sealed(bytes...)
+}
+
+// wantLoad: the dictionary of an image, or nil. Every rule by itself.
+func wantLoad(image string) map[string]int {
+	if len(image) < 5 || image[:2] != "WC" || sumOf(image)%256 != 0 {
+		return nil
+	}
+	count := int(image[2]) + int(image[3])*256
+	if count > 150 {
+		return nil
+	}
+	dict := map[string]int{}
+	last := ""
+	left := image[4 : len(image)-1]
+	for range count {
+		if len(left) < 4 || len(left) < 4+int(left[1]) || int(left[0]) > len(last) {
+			return nil
+		}
+		common := int(left[0])
+		end := 2 + int(left[1])
+		word := last[:common] + left[2:end]
+		cost := int(left[end]) + int(left[end+1])*256
+		if !wordForm.MatchString(word) || cost > 1000 || word <= last {
+			return nil
+		}
+		if common < len(last) && strings.HasPrefix(word, last[:common+1]) {
+			return nil
+		}
+		dict[word] = cost
+		last = word
+		left = left[end+2:]
+	}
+	if left != "" {
+		return nil
+	}
+	return dict
 }
 
 // dice throws the same numbers in every run.

@@ -38,6 +38,12 @@ func TestNoCallPanics(t *testing.T) {
 				t.Errorf("P4: Build(%.20q): error %d, want %d", lists, buildE, e)
 			}
 		}
+		for _, image := range []string{text, "WC" + text, "WC\x01\x00" + text, "WC\x01\x00\x00\x01" + text, "WC\x96\x00" + text, "WC\xff\xff" + text} {
+			d, loadE := wordcut.Load(image)
+			if (d == nil) != (loadE == api.ErrImage) || (d != nil) != (loadE == api.OK) {
+				t.Errorf("P1: Load(%.20q): error %d, the dictionary is nil: %v", image, loadE, d == nil)
+			}
+		}
 		example.Prefixes(text)
 		if hits := none.Prefixes(text); len(hits) != 0 {
 			t.Errorf("P5: Prefixes(%.20q) of no words = %v", text, hits)

@@ -4,6 +4,7 @@ package wordcut
 import (
 	"wordcut/api"
 	"wordcut/entries"
+	"wordcut/images"
 	"wordcut/words"
 )
 
@@ -59,10 +60,16 @@ func (d *Dict) Size() int { return d.words.Size() }
 func (d *Dict) Prefixes(text string) []api.Hit { return d.words.Prefixes(text) }
 
 // Image writes a dictionary down (P6).
-func (d *Dict) Image() string { return "" }
+func (d *Dict) Image() string { return images.Write(&d.words) }
 
 // Load reads an image (P7).
-func Load(image string) (*Dict, api.Errno) { return nil, api.OK }
+func Load(image string) (*Dict, api.Errno) {
+	set, is := images.Read(image)
+	if !is {
+		return nil, api.ErrImage
+	}
+	return &Dict{words: set}, api.OK
+}
 
 // Cut tells the boundaries of a text (P8 to P11).
 func (d *Dict) Cut(text string) ([]int, api.Errno) { return nil, api.OK }

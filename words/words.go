@@ -1,4 +1,4 @@
-// Package words: sets of words with their costs.
+// Package words: what a word is, and sets of words with their costs.
 package words
 
 import "wordcut/api"
@@ -15,6 +15,15 @@ type Set struct {
 
 // Size tells how many words there are.
 func (s *Set) Size() int { return len(s.list) }
+
+// At answers the word that has i others ahead of it, and its cost; "" and 0,
+// if there is none.
+func (s *Set) At(i int) (string, int) {
+	if i < 0 || i >= len(s.list) {
+		return "", 0
+	}
+	return s.list[i].word, s.list[i].cost
+}
 
 // Put puts a word in, or gives it another cost if it is in.
 func (s *Set) Put(word string, cost int) {

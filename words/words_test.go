@@ -38,3 +38,20 @@ func TestPutAgainGivesAnotherCost(t *testing.T) {
 		t.Errorf("of size %d, Prefixes %v", s.Size(), hits)
 	}
 }
+
+func TestAt(t *testing.T) {
+	var s Set
+	s.Put("b", 2)
+	s.Put("a", 1)
+	for _, c := range []struct {
+		i    int
+		word string
+		cost int
+	}{
+		{-1, "", 0}, {0, "a", 1}, {1, "b", 2}, {2, "", 0},
+	} {
+		if word, cost := s.At(c.i); word != c.word || cost != c.cost {
+			t.Errorf("At(%d) = %q, %d, want %q, %d", c.i, word, cost, c.word, c.cost)
+		}
+	}
+}

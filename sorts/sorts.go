@@ -1,4 +1,4 @@
-// Package sorts: the sorts of bytes that lists and words are made of.
+// Package sorts: the sorts of bytes that lists, words and texts are made of.
 package sorts
 
 const (
@@ -7,6 +7,7 @@ const (
 	Capital = 2
 	Digit   = 3
 	Mark    = 4
+	Blank   = 5
 )
 
 // Of tells the sort of a byte.
@@ -20,6 +21,8 @@ func Of(b byte) int {
 		return Digit
 	case b == '~':
 		return Mark
+	case b == ' ':
+		return Blank
 	}
 	return Other
 }

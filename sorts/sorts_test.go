@@ -18,6 +18,8 @@ func TestOfEveryByte(t *testing.T) {
 			want = Digit
 		case one == "~":
 			want = Mark
+		case one == "\x20":
+			want = Blank
 		}
 		if got := Of(byte(b)); got != want {
 			t.Errorf("Of(%d) = %d, want %d", b, got, want)

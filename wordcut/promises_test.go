@@ -44,6 +44,12 @@ func TestNoCallPanics(t *testing.T) {
 				t.Errorf("P1: Load(%.20q): error %d, the dictionary is nil: %v", image, loadE, d == nil)
 			}
 		}
+		for _, d := range []*wordcut.Dict{example, none} {
+			places, cutE := d.Cut(text)
+			if (places == nil) != (cutE == api.ErrLong) || (cutE == api.OK) != (len(text) <= 500) {
+				t.Errorf("P1: Cut(%.20q) has %d boundaries, error %d", text, len(places), cutE)
+			}
+		}
 		example.Prefixes(text)
 		if hits := none.Prefixes(text); len(hits) != 0 {
 			t.Errorf("P5: Prefixes(%.20q) of no words = %v", text, hits)

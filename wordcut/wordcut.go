@@ -3,6 +3,7 @@ package wordcut
 
 import (
 	"wordcut/api"
+	"wordcut/cuts"
 	"wordcut/entries"
 	"wordcut/images"
 	"wordcut/words"
@@ -72,7 +73,13 @@ func Load(image string) (*Dict, api.Errno) {
 }
 
 // Cut tells the boundaries of a text (P8 to P11).
-func (d *Dict) Cut(text string) ([]int, api.Errno) { return nil, api.OK }
+func (d *Dict) Cut(text string) ([]int, api.Errno) {
+	if len(text) > api.MaxText {
+		return nil, api.ErrLong
+	}
+	places := cuts.Boundaries(text, &d.words)
+	return places, api.OK
+}
 
 // Begin begins a walk (P12).
 func (d *Dict) Begin(text string) (*Walk, api.Errno) { return nil, api.OK }

@@ -222,6 +222,11 @@ func TestCutCapitals(t *testing.T) {
 		{"ABCDEFGHIJKL=1,A=1", "ABCDEFGHIJKL|MN|A|B"},
 		{"ABCDEFGHIJKL=1", "ABCDEFGHIJK"},
 
+		// Rows do not reach into the next run.
+		{"ABC=1,D=1,E=1,AB=1,CDE=1,ab=1", "ABC|D|E"},
+		{"ABC=1,D=1,E=1,AB=1,CDE=1,ab=1", "ABC|D|E|ab"},
+		{"A=1,AB=1,BC=1,C=1,D=1,ab=1,CD=1", "AB|CD|ab"},
+
 		// Where words stand: between clusters alone.
 		{"AB=1", "AB~"},
 		{"AB=1,A=1", "A|B~"},

@@ -203,11 +203,11 @@ func TestCutOfTextIsThatOfItsRuns(t *testing.T) {
 
 func TestCutHangsOnRunAlone(t *testing.T) {
 	d := dice(9)
-	for range 200 {
-		list := d.bothList(12)
+	for range 600 {
+		list := d.bothList(30)
 		dict := mustBuild(t, list)
 		for _, c := range []struct{ letters, others string }{{"ab", "AB"}, {"AB", "ab"}} {
-			run := d.text(c.letters, 1, 1) + d.text(c.letters+c.letters+"~", 0, 9)
+			run := d.text(c.letters, 1, 1) + d.text(strings.Repeat(c.letters, 5)+"~", 0, 12)
 			alone := cutOf(t, dict, run)
 			for _, ahead := range []string{".", " ", "1~", "~", c.others, d.text(c.others, 1, 6), c.letters + "."} {
 				for _, behind := range []string{".~", " ", "1", "\xff", c.others, d.text(c.others, 1, 6), " " + c.letters} {

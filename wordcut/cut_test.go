@@ -41,6 +41,16 @@ func mustTell(t *testing.T, list string) told {
 	return told{mustBuild(t, list), list, words}
 }
 
+// reload puts in the dictionary's place what Load makes of its image.
+func (d *told) reload(t *testing.T) {
+	t.Helper()
+	loaded, e := wordcut.Load(d.Image())
+	if e != api.OK || loaded == nil {
+		t.Fatalf("P7: Load of an image: %d", e)
+	}
+	d.Dict = loaded
+}
+
 // holdCut holds a cut against the document's second telling.
 func (d told) holdCut(t *testing.T, text string) {
 	t.Helper()

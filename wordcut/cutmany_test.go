@@ -263,11 +263,7 @@ func TestCutByLoadedDictionary(t *testing.T) {
 	d := dice(8)
 	for range 200 {
 		dict := mustTell(t, d.bothList(20))
-		loaded, e := wordcut.Load(dict.Image())
-		if e != api.OK {
-			t.Fatalf("P7: Load of an image: %d", e)
-		}
-		dict.Dict = loaded
+		dict.reload(t)
 		for range 5 {
 			dict.holdCut(t, d.text("aabbAABB~. 1", 0, 14))
 		}

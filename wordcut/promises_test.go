@@ -49,6 +49,13 @@ func TestNoCallPanics(t *testing.T) {
 			if (places == nil) != (cutE == api.ErrLong) || (cutE == api.OK) != (len(text) <= 500) {
 				t.Errorf("P1: Cut(%.20q) has %d boundaries, error %d", text, len(places), cutE)
 			}
+			w, beginE := d.Begin(text)
+			if (w == nil) != (beginE != api.OK) || beginE != cutE {
+				t.Errorf("P1: Begin(%.20q): error %d, the walk is nil: %v", text, beginE, w == nil)
+			}
+			if w != nil && !slices.Equal(boundariesOf(w), places) {
+				t.Errorf("P12: a walk over %.20q does not go over its boundaries", text)
+			}
 		}
 		example.Prefixes(text)
 		if hits := none.Prefixes(text); len(hits) != 0 {

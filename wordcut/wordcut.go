@@ -14,9 +14,6 @@ type Dict struct {
 	words words.Set
 }
 
-// Walk goes from boundary to boundary of a text.
-type Walk struct{}
-
 // Check tells whether a text is a list of words (P3).
 func Check(list string) (api.Errno, int) {
 	_, fault, place := entries.Read(list)
@@ -80,33 +77,3 @@ func (d *Dict) Cut(text string) ([]int, api.Errno) {
 	places := cuts.Boundaries(text, &d.words)
 	return places, api.OK
 }
-
-// Begin begins a walk (P12).
-func (d *Dict) Begin(text string) (*Walk, api.Errno) { return nil, api.OK }
-
-// Place tells where the walk is (P12).
-func (w *Walk) Place() int { return 0 }
-
-// Kind tells the kind of the piece that ends there (P12).
-func (w *Walk) Kind() int { return 0 }
-
-// First goes to the first boundary (P13).
-func (w *Walk) First() int { return 0 }
-
-// Last goes to the last boundary (P13).
-func (w *Walk) Last() int { return 0 }
-
-// Next goes to the next boundary (P13).
-func (w *Walk) Next() int { return 0 }
-
-// Previous goes to the boundary ahead (P13).
-func (w *Walk) Previous() int { return 0 }
-
-// Following goes to the first boundary above k (P14).
-func (w *Walk) Following(k int) int { return 0 }
-
-// Preceding goes to the last boundary below k (P14).
-func (w *Walk) Preceding(k int) int { return 0 }
-
-// Is tells whether k is a boundary, and goes there (P14).
-func (w *Walk) Is(k int) bool { return false }

@@ -25,6 +25,12 @@ func (s *Set) At(i int) (string, int) {
 	return s.list[i].word, s.list[i].cost
 }
 
+// Has tells whether a text is a word of the set.
+func (s *Set) Has(text string) bool {
+	_, found := s.find(text)
+	return found
+}
+
 // Put puts a word in, or gives it another cost if it is in.
 func (s *Set) Put(word string, cost int) {
 	at, found := s.find(word)

@@ -55,3 +55,21 @@ func TestAt(t *testing.T) {
 		}
 	}
 }
+
+func TestHas(t *testing.T) {
+	var s Set
+	if s.Has("") || s.Has("a") {
+		t.Errorf("a set of no words has one")
+	}
+	for _, word := range []string{"b", "ab", "AB", "a~"} {
+		s.Put(word, 0)
+	}
+	s.Drop("b")
+	for text, want := range map[string]bool{
+		"ab": true, "AB": true, "a~": true, "b": false, "": false, "a": false, "abc": false, "ab~": false, "Ab": false, "z": false,
+	} {
+		if got := s.Has(text); got != want {
+			t.Errorf("Has(%q) = %v, want %v", text, got, want)
+		}
+	}
+}
